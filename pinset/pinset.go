@@ -1,0 +1,81 @@
+// Package pinset: pinned versions of modules: see DOC.md.
+package pinset
+
+import (
+	"pinset/api"
+	"pinset/names"
+	"pinset/texts"
+)
+
+// Topo is an order that is kept while edges come and go.
+type Topo struct{}
+
+// Engine is texts, and what was worked out of them.
+type Engine struct{}
+
+// Compare tells which of two versions goes ahead (P3).
+func Compare(a string, b string) (int, api.Errno) {
+	v, aIsVersion := names.ParseVersion(a)
+	w, bIsVersion := names.ParseVersion(b)
+	if !aIsVersion || !bIsVersion {
+		return 0, api.ErrVersion
+	}
+	return v.Compare(w), api.OK
+}
+
+// Manifest reads a manifest's text (P4).
+func Manifest(text string) (api.Manifest, []api.Slip) { return texts.Manifest(text) }
+
+// Format writes a manifest (P5).
+func Format(m api.Manifest) string { return texts.Format(m) }
+
+// Index reads an index's text (P6).
+func Index(text string) ([]string, []api.Slip) { return texts.Index(text) }
+
+// NewTopo is an order of n nodes without edges (P7).
+func NewTopo(n int) (*Topo, api.Errno) { return nil, api.OK }
+
+// Add puts an edge in (P8).
+func (t *Topo) Add(x int, y int) (api.Errno, []int) { return api.OK, nil }
+
+// Remove takes an edge out (P9).
+func (t *Topo) Remove(x int, y int) bool { return false }
+
+// Order tells the order (P9).
+func (t *Topo) Order() []int { return nil }
+
+// New is an engine without texts (P10).
+func New(capacity int) (*Engine, api.Errno) { return nil, api.OK }
+
+// PutManifest lays a manifest's text down (P11).
+func (e *Engine) PutManifest(path string, version string, text string) api.Errno { return api.OK }
+
+// DropManifest takes a manifest's text away (P11).
+func (e *Engine) DropManifest(path string, version string) api.Errno { return api.OK }
+
+// PutIndex lays an index's text down (P11).
+func (e *Engine) PutIndex(path string, text string) api.Errno { return api.OK }
+
+// DropIndex takes an index's text away (P11).
+func (e *Engine) DropIndex(path string) api.Errno { return api.OK }
+
+// SetRoot says which module is the root (P11).
+func (e *Engine) SetRoot(path string) api.Errno { return api.OK }
+
+// Revision tells how often the texts have changed (P12).
+func (e *Engine) Revision() int { return 0 }
+
+// Answer tells the build list, the problems and the order (P13 to P16).
+func (e *Engine) Answer() api.Answer { return api.Answer{} }
+
+// Diff tells what has changed in the answer since it was asked last (P17).
+func (e *Engine) Diff() api.Diff { return api.Diff{} }
+
+// Counts tells how often what was worked out (P18).
+func (e *Engine) Counts() api.Counts { return api.Counts{} }
+
+// Resident tells how much of what was worked out is kept (P19).
+func (e *Engine) Resident() int { return 0 }
+
+// Evict forgets some of it (P19).
+func (e *Engine) Evict(n int) {}
