@@ -4,11 +4,14 @@ package pinset
 import (
 	"pinset/api"
 	"pinset/names"
+	"pinset/orders"
 	"pinset/texts"
 )
 
 // Topo is an order that is kept while edges come and go.
-type Topo struct{}
+type Topo struct {
+	row orders.Row
+}
 
 // Engine is texts, and what was worked out of them.
 type Engine struct{}
@@ -33,16 +36,21 @@ func Format(m api.Manifest) string { return texts.Format(m) }
 func Index(text string) ([]string, []api.Slip) { return texts.Index(text) }
 
 // NewTopo is an order of n nodes without edges (P7).
-func NewTopo(n int) (*Topo, api.Errno) { return nil, api.OK }
+func NewTopo(n int) (*Topo, api.Errno) {
+	if n < 0 || n > api.MaxPlaces {
+		return nil, api.ErrArg
+	}
+	return &Topo{orders.NewRow(n)}, api.OK
+}
 
 // Add puts an edge in (P8).
-func (t *Topo) Add(x int, y int) (api.Errno, []int) { return api.OK, nil }
+func (t *Topo) Add(x int, y int) (api.Errno, []int) { return t.row.Add(x, y) }
 
 // Remove takes an edge out (P9).
-func (t *Topo) Remove(x int, y int) bool { return false }
+func (t *Topo) Remove(x int, y int) bool { return t.row.Remove(x, y) }
 
 // Order tells the order (P9).
-func (t *Topo) Order() []int { return nil }
+func (t *Topo) Order() []int { return t.row.Nodes() }
 
 // New is an engine without texts (P10).
 func New(capacity int) (*Engine, api.Errno) { return nil, api.OK }
