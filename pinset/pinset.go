@@ -5,6 +5,8 @@ import (
 	"pinset/api"
 	"pinset/names"
 	"pinset/orders"
+	"pinset/plan"
+	"pinset/shelf"
 	"pinset/texts"
 )
 
@@ -14,7 +16,9 @@ type Topo struct {
 }
 
 // Engine is texts, and what was worked out of them.
-type Engine struct{}
+type Engine struct {
+	shelf shelf.Shelf
+}
 
 // Compare tells which of two versions goes ahead (P3).
 func Compare(a string, b string) (int, api.Errno) {
@@ -53,28 +57,37 @@ func (t *Topo) Remove(x int, y int) bool { return t.row.Remove(x, y) }
 func (t *Topo) Order() []int { return t.row.Nodes() }
 
 // New is an engine without texts (P10).
-func New(capacity int) (*Engine, api.Errno) { return nil, api.OK }
+func New(capacity int) (*Engine, api.Errno) {
+	if capacity < 1 {
+		return nil, api.ErrArg
+	}
+	return &Engine{shelf.New()}, api.OK
+}
 
 // PutManifest lays a manifest's text down (P11).
-func (e *Engine) PutManifest(path string, version string, text string) api.Errno { return api.OK }
+func (e *Engine) PutManifest(path string, version string, text string) api.Errno {
+	return e.shelf.PutManifest(path, version, text)
+}
 
 // DropManifest takes a manifest's text away (P11).
-func (e *Engine) DropManifest(path string, version string) api.Errno { return api.OK }
+func (e *Engine) DropManifest(path string, version string) api.Errno {
+	return e.shelf.DropManifest(path, version)
+}
 
 // PutIndex lays an index's text down (P11).
-func (e *Engine) PutIndex(path string, text string) api.Errno { return api.OK }
+func (e *Engine) PutIndex(path string, text string) api.Errno { return e.shelf.PutIndex(path, text) }
 
 // DropIndex takes an index's text away (P11).
-func (e *Engine) DropIndex(path string) api.Errno { return api.OK }
+func (e *Engine) DropIndex(path string) api.Errno { return e.shelf.DropIndex(path) }
 
 // SetRoot says which module is the root (P11).
-func (e *Engine) SetRoot(path string) api.Errno { return api.OK }
+func (e *Engine) SetRoot(path string) api.Errno { return e.shelf.SetRoot(path) }
 
 // Revision tells how often the texts have changed (P12).
-func (e *Engine) Revision() int { return 0 }
+func (e *Engine) Revision() int { return e.shelf.Revision() }
 
 // Answer tells the build list, the problems and the order (P13 to P16).
-func (e *Engine) Answer() api.Answer { return api.Answer{} }
+func (e *Engine) Answer() api.Answer { return plan.Answer(&e.shelf) }
 
 // Diff tells what has changed in the answer since it was asked last (P17).
 func (e *Engine) Diff() api.Diff { return api.Diff{} }

@@ -46,7 +46,7 @@ func manifestShape(first string) (shape, bool) {
 // inOrder is m with its lists in order: new ones, m's own are not touched.
 func inOrder(m api.Manifest) api.Manifest {
 	m.Requires = sorted(m.Requires, comparePaths)
-	m.Excludes = sorted(m.Excludes, compareModules)
+	m.Excludes = sorted(m.Excludes, names.CompareModules)
 	m.Replaces = sorted(m.Replaces, compareSwaps)
 	return m
 }
@@ -61,15 +61,8 @@ func comparePaths(a api.Module, b api.Module) int {
 	return strings.Compare(a.Path, b.Path)
 }
 
-func compareModules(a api.Module, b api.Module) int {
-	if c := comparePaths(a, b); c != 0 {
-		return c
-	}
-	return names.CompareWords(a.Version, b.Version)
-}
-
 func compareSwaps(a api.Swap, b api.Swap) int {
-	return compareModules(api.Module{Path: a.Path, Version: a.Version}, api.Module{Path: b.Path, Version: b.Version})
+	return names.CompareModules(api.Module{Path: a.Path, Version: a.Version}, api.Module{Path: b.Path, Version: b.Version})
 }
 
 // Format writes a manifest.
