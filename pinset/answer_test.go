@@ -250,10 +250,16 @@ func TestHighestVersion(t *testing.T) {
 	}
 }
 
-// chain is an engine whose root reaches n nodes, itself with them: 3 versions of each of 20 paths, in rows of three.
 func chain(t *testing.T, n int) *pinset.Engine {
 	t.Helper()
-	e := built(t, "root m")
+	e := newEngine(t, 100)
+	layChain(t, e, n)
+	return e
+}
+
+// layChain lays a root down that reaches n nodes, itself with them: 3 versions of each of 20 paths, in rows of three.
+func layChain(t *testing.T, e *pinset.Engine, n int) {
+	t.Helper()
 	root := "m:"
 	for i := 0; i < n-1; i += 3 {
 		path := "x" + string(rune('a'+i/3))
@@ -262,8 +268,7 @@ func chain(t *testing.T, n int) *pinset.Engine {
 		first := 3 - min(3, n-1-i)
 		root += fmt.Sprintf("require %s v1.%d.0;", path, first)
 	}
-	lay(t, e, root)
-	return e
+	lay(t, e, "root m", root)
 }
 
 func TestAsManyNodesAsMayBe(t *testing.T) {

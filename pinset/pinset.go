@@ -17,7 +17,9 @@ type Topo struct {
 
 // Engine is texts, and what was worked out of them.
 type Engine struct {
-	shelf shelf.Shelf
+	shelf *shelf.Shelf
+	desk  *plan.Desk
+	told  api.Answer // what Diff has told so far
 }
 
 // Compare tells which of two versions goes ahead (P3).
@@ -61,7 +63,8 @@ func New(capacity int) (*Engine, api.Errno) {
 	if capacity < 1 {
 		return nil, api.ErrArg
 	}
-	return &Engine{shelf.New()}, api.OK
+	s := shelf.New()
+	return &Engine{shelf: s, desk: plan.New(s, capacity)}, api.OK
 }
 
 // PutManifest lays a manifest's text down (P11).
@@ -87,16 +90,20 @@ func (e *Engine) SetRoot(path string) api.Errno { return e.shelf.SetRoot(path) }
 func (e *Engine) Revision() int { return e.shelf.Revision() }
 
 // Answer tells the build list, the problems and the order (P13 to P16).
-func (e *Engine) Answer() api.Answer { return plan.Answer(&e.shelf) }
+func (e *Engine) Answer() api.Answer { return e.desk.Answer() }
 
 // Diff tells what has changed in the answer since it was asked last (P17).
-func (e *Engine) Diff() api.Diff { return api.Diff{} }
+func (e *Engine) Diff() api.Diff {
+	ahead := e.told
+	e.told = e.desk.Answer()
+	return plan.Between(ahead, e.told)
+}
 
 // Counts tells how often what was worked out (P18).
-func (e *Engine) Counts() api.Counts { return api.Counts{} }
+func (e *Engine) Counts() api.Counts { return e.desk.Counts() }
 
 // Resident tells how much of what was worked out is kept (P19).
-func (e *Engine) Resident() int { return 0 }
+func (e *Engine) Resident() int { return e.desk.Resident() }
 
 // Evict forgets some of it (P19).
-func (e *Engine) Evict(n int) {}
+func (e *Engine) Evict(n int) { e.desk.Evict(n) }

@@ -15,10 +15,29 @@ type world struct {
 	indexes   map[string]string
 	root      string
 	revision  int
+	read      map[string]parsed // manifests' texts, whichever they are under: patterns are slow
+}
+
+// parsed is what a manifest's text says, or that it has slips.
+type parsed struct {
+	says     api.Manifest
+	hasSlips bool
 }
 
 func newWorld() *world {
-	return &world{manifests: map[api.Module]string{}, indexes: map[string]string{}}
+	return &world{manifests: map[api.Module]string{}, indexes: map[string]string{}, read: map[string]parsed{}}
+}
+
+func (w *world) parse(text string) parsed {
+	p, there := w.read[text]
+	if !there {
+		p.hasSlips = len(slipsOf(text, manifestLineForms, true)) > 0
+		if !p.hasSlips {
+			p.says = manifestOf(text)
+		}
+		w.read[text] = p
+	}
+	return p
 }
 
 func (w *world) putManifest(path, version, text string) api.Errno {
@@ -97,30 +116,35 @@ func (w *world) said(at api.Module) (api.Manifest, []api.Problem) {
 	switch {
 	case !there:
 		kind = 2
-	case len(slipsOf(text, manifestLineForms, true)) > 0:
+	case w.parse(text).hasSlips:
 		kind = 3
-	case manifestOf(text).Path != at.Path:
+	case w.parse(text).says.Path != at.Path:
 		kind = 4
 	default:
-		return manifestOf(text), nil
+		return w.parse(text).says, nil
 	}
 	return api.Manifest{}, []api.Problem{{Kind: kind, Path: at.Path, Version: at.Version}}
+}
+
+// sourceOf is what a node's manifest lies under.
+func (w *world) sourceOf(node api.Module) api.Module {
+	rules, _ := w.said(api.Module{Path: w.root})
+	for _, r := range rules.Replaces {
+		if (api.Module{Path: r.Path, Version: r.Version}) == node {
+			return api.Module{Path: r.Path, Version: r.By}
+		}
+	}
+	return node
 }
 
 // wants is what a node wants, and its problems.
 func (w *world) wants(node api.Module) ([]api.Module, []api.Problem) {
 	rules, _ := w.said(api.Module{Path: w.root})
-	at := node
 	excluded := map[api.Module]bool{}
 	for _, x := range rules.Excludes {
 		excluded[x] = true
 	}
-	for _, r := range rules.Replaces {
-		if (api.Module{Path: r.Path, Version: r.Version}) == node {
-			at.Version = r.By
-		}
-	}
-	m, problems := w.said(at)
+	m, problems := w.said(w.sourceOf(node))
 	var wanted []api.Module
 	for _, r := range m.Requires {
 		if r.Path == w.root {

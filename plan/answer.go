@@ -6,13 +6,13 @@ import (
 	"strings"
 
 	"pinset/api"
-	"pinset/shelf"
 )
 
 // Answer tells the build list, the problems and the order.
-func Answer(s *shelf.Shelf) api.Answer {
-	d := desk{shelf: s, found: map[question]finding{}}
-	l, o := d.list(), d.order()
+func (d *Desk) Answer() api.Answer {
+	t := task{desk: d}
+	l, o := t.list(), t.order()
+	d.shrink()
 	return api.Answer{
 		Modules:  slices.Clone(l.modules),
 		Problems: eachOnce(slices.Concat(l.problems, o.problems)),

@@ -13,15 +13,24 @@ type list struct {
 	problems []api.Problem
 }
 
-func (d *desk) workOutList() list {
-	if d.shelf.Root() == "" {
+// sameAs leaves the problems out: what hangs on the list is the order, which asks for the modules alone.
+func (l list) sameAs(ahead finding) bool {
+	switch was := ahead.(type) {
+	case list:
+		return slices.Equal(l.modules, was.modules)
+	}
+	return false
+}
+
+func (t *task) workOutList() list {
+	root := t.root()
+	if root.Path == "" {
 		return list{problems: []api.Problem{{Kind: api.NoRoot}}}
 	}
-	root := api.Module{Path: d.shelf.Root()}
 	reached := []api.Module{root}
 	var problems []api.Problem
 	for i := 0; i < len(reached); i++ {
-		w := d.wants(reached[i])
+		w := t.wants(reached[i])
 		problems = append(problems, w.problems...)
 		for _, m := range w.modules {
 			if slices.Contains(reached, m) {

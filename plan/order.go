@@ -13,9 +13,17 @@ type order struct {
 	problems []api.Problem
 }
 
-func (d *desk) workOutOrder() order {
-	modules := d.list().modules
-	needs := d.needsOver(modules)
+func (o order) sameAs(ahead finding) bool {
+	switch was := ahead.(type) {
+	case order:
+		return slices.Equal(o.paths, was.paths) && slices.Equal(o.problems, was.problems)
+	}
+	return false
+}
+
+func (t *task) workOutOrder() order {
+	modules := t.list().modules
+	needs := t.needsOver(modules)
 	var o order
 	placed := make([]bool, len(modules))
 	for group := nextGroup(needs, placed); len(group) > 0; group = nextGroup(needs, placed) {
@@ -33,11 +41,11 @@ func (d *desk) workOutOrder() order {
 }
 
 // needsOver tells of each two modules whether the first needs the second, be it over others.
-func (d *desk) needsOver(modules []api.Module) [][]bool {
+func (t *task) needsOver(modules []api.Module) [][]bool {
 	needs := make([][]bool, len(modules))
 	for i, m := range modules {
 		needs[i] = make([]bool, len(modules))
-		for _, wanted := range d.wants(m).modules {
+		for _, wanted := range t.wants(m).modules {
 			at := slices.IndexFunc(modules, func(other api.Module) bool { return other.Path == wanted.Path })
 			// The list may be the root alone, with nothing of what it wants.
 			if at >= 0 {

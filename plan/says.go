@@ -1,7 +1,10 @@
 package plan
 
 import (
+	"slices"
+
 	"pinset/api"
+	"pinset/shelf"
 	"pinset/texts"
 )
 
@@ -11,15 +14,26 @@ type manifest struct {
 	says    api.Manifest
 }
 
-func readManifest(text string, there bool) manifest {
-	if !there {
+func readManifest(text shelf.Text) manifest {
+	if !text.There {
 		return manifest{problem: api.NoManifest}
 	}
-	says, slips := texts.Manifest(text)
+	says, slips := texts.Manifest(text.Body)
 	if len(slips) > 0 {
 		return manifest{problem: api.Malformed}
 	}
 	return manifest{says: says}
+}
+
+func (m manifest) sameAs(ahead finding) bool {
+	switch was := ahead.(type) {
+	case manifest:
+		return m.problem == was.problem && m.says.Path == was.says.Path &&
+			slices.Equal(m.says.Requires, was.says.Requires) &&
+			slices.Equal(m.says.Excludes, was.says.Excludes) &&
+			slices.Equal(m.says.Replaces, was.says.Replaces)
+	}
+	return false
 }
 
 // problemAs is the kind of what is wrong with it as the manifest of a path, or 0.
@@ -36,13 +50,21 @@ type index struct {
 	versions []string // in order
 }
 
-func readIndex(text string, there bool) index {
-	if !there {
+func readIndex(text shelf.Text) index {
+	if !text.There {
 		return index{problem: api.NoIndex}
 	}
-	versions, slips := texts.Index(text)
+	versions, slips := texts.Index(text.Body)
 	if len(slips) > 0 {
 		return index{problem: api.BadIndex}
 	}
 	return index{versions: versions}
+}
+
+func (x index) sameAs(ahead finding) bool {
+	switch was := ahead.(type) {
+	case index:
+		return x.problem == was.problem && slices.Equal(x.versions, was.versions)
+	}
+	return false
 }

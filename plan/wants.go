@@ -12,19 +12,28 @@ type wants struct {
 	problems []api.Problem
 }
 
-func (d *desk) workOutWants(node api.Module) wants {
-	rules := d.rules()
+func (w wants) sameAs(ahead finding) bool {
+	switch was := ahead.(type) {
+	case wants:
+		return slices.Equal(w.modules, was.modules) && slices.Equal(w.problems, was.problems)
+	}
+	return false
+}
+
+func (t *task) workOutWants(node api.Module) wants {
+	root := t.root()
+	rules := t.rules(root)
 	source := replaced(node, rules.Replaces)
-	m := d.manifest(source)
+	m := t.manifest(source)
 	if kind := m.problemAs(node.Path); kind != 0 {
 		return wants{problems: []api.Problem{{Kind: kind, Path: source.Path, Version: source.Version}}}
 	}
 	var w wants
 	for _, required := range m.says.Requires {
-		if required.Path == d.shelf.Root() {
+		if required.Path == root.Path {
 			continue
 		}
-		chosen, problem := choose(required, d.index(required.Path), rules.Excludes)
+		chosen, problem := choose(required, t.index(required.Path), rules.Excludes)
 		if problem.Kind != 0 {
 			w.problems = append(w.problems, problem)
 			continue
@@ -35,9 +44,8 @@ func (d *desk) workOutWants(node api.Module) wants {
 }
 
 // rules is what the root's manifest says: it alone excludes and replaces.
-func (d *desk) rules() api.Manifest {
-	root := api.Module{Path: d.shelf.Root()}
-	m := d.manifest(root)
+func (t *task) rules(root api.Module) api.Manifest {
+	m := t.manifest(root)
 	if m.problemAs(root.Path) != 0 {
 		return api.Manifest{}
 	}
